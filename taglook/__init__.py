@@ -1,0 +1,1 @@
+"""Taglook: words looked up through lines of elders, kept by tags."""
