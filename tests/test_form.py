@@ -31,6 +31,12 @@ OUT_WORDS = re.compile(
     r"|NamedTuple|TypedDict|TYPE_CHECKING|abstractmethod)\b|dataclass|overload|contextmanager"
 )
 DUNDERS = ("__init__", "__eq__", "__repr__", "__str__", "__len__")
+WALKS = ("zip", "enumerate", "reversed", "range")
+DICT_WALKS = ("items", "keys", "values")
+WALKERS = ("list", "tuple", "dict", "sorted", "sum", "any", "all", "enumerate", "zip", "min", "max")
+NOT_VALUES = set("items keys values pop update append clear extend insert remove reverse setdefault sort args".split())
+MAY_BE_VALUES = set("count index title find get join lower upper split strip copy add".split())
+PYTHONS_TAKEN = ("KeyError", "ZeroDivisionError", "StopIteration", "ValueError", "LookupError", "IndexError")
 
 
 def files():
@@ -51,6 +57,35 @@ def bound_names():
     names += [node.arg for path, node in nodes_of(ast.arg)]
     names += [node.id for path, node in nodes_of(ast.Name) if isinstance(node.ctx, ast.Store)]
     return names
+
+
+def links_of(tree):
+    """Each node of a tree with the node in which it stands."""
+    return [(node, above) for above in ast.walk(tree) for node in ast.iter_child_nodes(above)]
+
+
+def all_links():
+    return [(path, node, above) for path, tree in trees() for node, above in links_of(tree)]
+
+
+def called(node):
+    """The name of the function or method that a node calls, or None."""
+    if not isinstance(node, ast.Call):
+        return None
+    return node.func.id if isinstance(node.func, ast.Name) else getattr(node.func, "attr", None)
+
+
+def methods_of_the_package():
+    inner = [part for path, node in nodes_of(ast.ClassDef) for part in node.body]
+    return {part.name for part in inner if isinstance(part, ast.FunctionDef)}
+
+
+def values_of_the_package():
+    return {node.attr for path, node in nodes_of(ast.Attribute) if isinstance(node.ctx, ast.Store)}
+
+
+def classes_of_the_package():
+    return {node.name for path, node in nodes_of(ast.ClassDef)}
 
 
 def own_attributes():
@@ -131,12 +166,170 @@ class Form(unittest.TestCase):
                     self.assertIsInstance(right, ast.Constant, (path, node.lineno))
 
     def test_no_name_is_a_method_here_and_a_value_there(self):
-        methods = {
-            inner.name for path, node in nodes_of(ast.ClassDef) for inner in node.body
-            if isinstance(inner, ast.FunctionDef)
+        self.assertEqual(methods_of_the_package() & values_of_the_package(), set())
+
+    def test_names_of_own_methods_and_values(self):
+        pythons = {name for one in ("", 0, [], {}, set(), b"") for name in dir(one)} - set(DUNDERS)
+        self.assertEqual(methods_of_the_package() & (pythons - METHODS - {"add", "discard"}), set())
+        self.assertEqual(values_of_the_package() & (NOT_VALUES | (pythons - MAY_BE_VALUES)), set())
+
+
+class FormOfFiles(unittest.TestCase):
+    def test_the_top_of_a_file(self):
+        for path, tree in trees():
+            bound = []
+            for node in tree.body[1:]:
+                self.assertIsInstance(node, (ast.ImportFrom, ast.FunctionDef, ast.ClassDef, ast.Assign), path)
+                if isinstance(node, ast.ImportFrom):
+                    bound += [alias.asname or alias.name for alias in node.names]
+                elif isinstance(node, ast.Assign):
+                    bound += [target.id for target in node.targets]
+                else:
+                    bound.append(node.name)
+            self.assertEqual(len(bound), len(set(bound)), path)
+            self.assertIsNotNone(ast.get_docstring(tree), path)
+
+    def test_lists_and_dicts_of_a_files_top_hold_no_lists(self):
+        for path, tree in trees():
+            for node in tree.body:
+                if isinstance(node, ast.Assign):
+                    inner = [part for part in ast.walk(node.value) if isinstance(part, (ast.List, ast.Dict))]
+                    self.assertTrue(all(part is node.value for part in inner), (path, node.lineno))
+
+    def test_names_are_drawn_from_the_file_that_defines_them(self):
+        for path, node in nodes_of(ast.ImportFrom):
+            source = ast.parse((PACKAGE / (node.module.split(".")[1] + ".py")).read_text())
+            defined = {part.name for part in source.body if isinstance(part, (ast.FunctionDef, ast.ClassDef))}
+            for alias in node.names:
+                self.assertIn(alias.name, defined, (path, node.lineno))
+                self.assertIsNone(alias.asname, (path, node.lineno))
+
+    def test_no_two_files_draw_from_one_another(self):
+        drawn = {"taglook." + path.stem: set() for path in files()}
+        for path, node in nodes_of(ast.ImportFrom):
+            drawn["taglook." + path.stem].add(node.module)
+        while drawn:
+            last = [name for name in drawn if not drawn[name] & set(drawn)]
+            self.assertTrue(last, drawn)
+            for name in last:
+                drawn.pop(name)
+
+    def test_locals_are_not_called_like_classes_imports_or_pythons_names(self):
+        for path, tree in trees():
+            top = {part.name for part in tree.body if isinstance(part, ast.ClassDef)}
+            for part in tree.body:
+                if isinstance(part, ast.ImportFrom):
+                    top |= {alias.name for alias in part.names}
+            names = {node.arg for node in ast.walk(tree) if isinstance(node, ast.arg)}
+            names |= {node.id for node in ast.walk(tree) if isinstance(node, ast.Name) and isinstance(node.ctx, ast.Store)}
+            names |= {node.name for node in ast.walk(tree) if isinstance(node, ast.ExceptHandler)}
+            self.assertEqual(names & top, set(), path)
+            self.assertEqual({name for name in names if name and hasattr(builtins, name)}, set(), path)
+
+
+class FormOfSteps(unittest.TestCase):
+    def test_one_target_and_no_annotations(self):
+        for path, node in nodes_of(ast.Assign):
+            self.assertEqual(len(node.targets), 1, (path, node.lineno))
+            self.assertNotIsInstance(node.targets[0], (ast.Tuple, ast.List), (path, node.lineno))
+        for path, node in nodes_of(ast.FunctionDef):
+            self.assertIsNone(node.returns, (path, node.lineno))
+        for path, node in nodes_of(ast.arg):
+            self.assertIsNone(node.annotation, (path, node.lineno))
+
+    def test_plain_parameters(self):
+        for path, node in nodes_of(ast.arguments):
+            self.assertEqual((node.vararg, node.kwarg, node.kwonlyargs, node.posonlyargs), (None, None, [], []), path)
+            for default in node.defaults:
+                self.assertIsInstance(default, ast.Constant, path)
+
+    def test_classes_are_called_or_stand_where_they_may(self):
+        classes = classes_of_the_package()
+        for path, node, above in all_links():
+            if isinstance(node, ast.Name) and node.id in classes:
+                good = (
+                    (isinstance(above, ast.Call) and (above.func is node or called(above) == "isinstance"))
+                    or isinstance(above, (ast.ClassDef, ast.ExceptHandler))
+                    or (isinstance(above, ast.Attribute) and above.attr == "__init__")
+                )
+                self.assertTrue(good, (path, node.lineno))
+
+    def test_errors_taken_and_raised(self):
+        for path, node in nodes_of(ast.ExceptHandler):
+            taken = node.type.elts if isinstance(node.type, ast.Tuple) else [node.type]
+            for one in taken:
+                self.assertIn(one.id, classes_of_the_package() | set(PYTHONS_TAKEN), (path, node.lineno))
+        for path, node in nodes_of(ast.Raise):
+            self.assertIsInstance(node.exc, ast.Call, (path, node.lineno))
+
+    def test_methods_are_called_where_they_stand(self):
+        methods = METHODS | methods_of_the_package()
+        for path, node, above in all_links():
+            if isinstance(node, ast.Attribute) and node.attr in methods - values_of_the_package():
+                self.assertTrue(isinstance(above, ast.Call) and above.func is node, (path, node.lineno))
+
+    def test_pythons_own_functions_are_called(self):
+        for path, node, above in all_links():
+            if isinstance(node, ast.Name) and hasattr(builtins, node.id):
+                beside = isinstance(above, (ast.Call, ast.Tuple, ast.keyword, ast.ClassDef, ast.ExceptHandler))
+                self.assertTrue(beside, (path, node.lineno))
+
+    def test_keywords_at_pythons_own(self):
+        known = {
+            "sorted": {"key", "reverse"}, "min": {"key", "default"}, "max": {"key", "default"},
+            "sum": {"start"}, "enumerate": {"start"}, "zip": {"strict"},
         }
-        stored = {node.attr for path, node in nodes_of(ast.Attribute) if isinstance(node.ctx, ast.Store)}
-        self.assertEqual(methods & stored, set())
+        classes = classes_of_the_package()
+        for path, node in nodes_of(ast.Call):
+            keywords = {keyword.arg for keyword in node.keywords}
+            if called(node) in METHODS | classes or hasattr(builtins, called(node) or "-"):
+                self.assertLessEqual(keywords, known.get(called(node), set()), (path, node.lineno))
+
+    def test_walks_are_walked_on_the_spot(self):
+        for path, node, above in all_links():
+            plain = isinstance(node, ast.Call) and isinstance(node.func, ast.Name) and node.func.id in WALKS
+            if plain or called(node) in DICT_WALKS:
+                walked = isinstance(above, (ast.For, ast.comprehension)) and above.iter is node
+                self.assertTrue(walked or called(above) in WALKERS + ("join",), (path, node.lineno))
+
+    def test_what_a_loop_walks_is_not_changed_in_it(self):
+        changes = ("append", "clear", "extend", "insert", "pop", "remove", "reverse", "setdefault", "update")
+        for path, loop in nodes_of(ast.For):
+            walked = {ast.unparse(part) for part in ast.walk(loop.iter) if isinstance(part, (ast.Name, ast.Attribute))}
+            for node in [part for step in loop.body for part in ast.walk(step)]:
+                if called(node) in changes and isinstance(node.func, ast.Attribute):
+                    self.assertNotIn(ast.unparse(node.func.value), walked, (path, node.lineno))
+                if isinstance(node, ast.Subscript) and isinstance(node.ctx, ast.Store):
+                    self.assertNotIn(ast.unparse(node.value), walked, (path, node.lineno))
+
+    def test_sets_are_neither_kept_nor_walked(self):
+        for path, node, above in all_links():
+            if called(node) in ("set", "frozenset"):
+                beside = isinstance(above, (ast.Compare, ast.BinOp)) or called(above) in ("sorted", "len")
+                self.assertTrue(beside, (path, node.lineno))
+
+    def test_no_powers_and_nothing_on_the_way_to_a_float(self):
+        for path, node in nodes_of((ast.Pow, ast.Mod)):
+            self.fail((path, node))
+        for path, node in nodes_of(ast.JoinedStr):
+            for part in node.values:
+                plain = isinstance(part, ast.Constant) or (
+                    isinstance(part.value, ast.Name) and part.format_spec is None and part.conversion in (-1, ord("r"))
+                )
+                self.assertTrue(plain, (path, node.lineno))
+
+    def test_lists_and_dicts_of_a_files_top_are_only_read(self):
+        for path, tree in trees():
+            kept = {
+                node.targets[0].id for node in tree.body
+                if isinstance(node, ast.Assign) and isinstance(node.value, (ast.List, ast.Dict))
+            }
+            for node, above in links_of(tree):
+                if isinstance(node, ast.Name) and node.id in kept and isinstance(node.ctx, ast.Load):
+                    read = isinstance(above, (ast.Subscript, ast.For, ast.comprehension, ast.Compare)) or (
+                        isinstance(above, ast.Attribute) and above.attr in ("get", "items", "keys", "values")
+                    ) or called(above) in ("len", "list", "dict", "sorted")
+                    self.assertTrue(read and not isinstance(getattr(above, "ctx", None), ast.Store), (path, node.lineno))
 
 
 if __name__ == "__main__":
