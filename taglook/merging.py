@@ -1,6 +1,7 @@
 """Rows of names merged to one order, and the rings that show where there is none."""
 
 from taglook.errors import Ring
+from taglook.names import is_whole
 
 
 def merged(rows):
@@ -65,14 +66,7 @@ def is_ring(rows, steps):
 def is_claim(rows, step):
     if not isinstance(step, tuple) or len(step) != 3:
         return False
-    if not isinstance(step[0], str) or not isinstance(step[1], str) or not is_place(rows, step[2]):
+    if not isinstance(step[0], str) or not isinstance(step[1], str) or not is_whole(step[2], 0, len(rows) - 1):
         return False
     row = rows[step[2]]
     return step[0] in row and step[1] in row and row.index(step[0]) < row.index(step[1])
-
-
-def is_place(rows, thing):
-    # A truth is an int to Python, but no whole number here.
-    if isinstance(thing, bool) or not isinstance(thing, int):
-        return False
-    return 0 <= thing < len(rows)

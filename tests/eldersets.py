@@ -7,6 +7,7 @@ from tests import rowsets
 # Five kinds: b, a is one order, a, b the other, and no line keeps both.
 KNOT = {"a": [], "b": [], "c": ["a", "b"], "d": ["b", "a"]}
 TANGLE = {**KNOT, "e": ["c", "d"]}
+TANGLE_FREE = {**KNOT, "e": []}
 DIAMOND = {"a": [], "b": ["a"], "c": ["a"], "d": ["b", "c"]}
 
 

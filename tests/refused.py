@@ -22,8 +22,21 @@ class LikeNoOther:
     """A thing that is neither a text nor a number, nor equal to any."""
 
 
+class LikeText:
+    """A thing that is equal to a text, but is none."""
+
+    def __init__(self, text):
+        self.text = text
+
+    def __eq__(self, other):
+        return other == self.text
+
+    def __hash__(self):
+        return hash(self.text)
+
+
 def no_names():
     return [
         "", "A", "aB", "a b", " a", "a ", "abcdefghi", "a1", "1", "a,b", "-", "a-b", "a\n", "\t",
-        None, 0, 1, -1, True, False, [], ["a"], (), ("a",), {}, {"a": "b"}, 1.5, b"a", LikeNoOther(),
+        None, 0, 1, -1, True, False, [], ["a"], (), ("a",), {}, {"a": "b"}, 1.5, b"a", LikeNoOther(), LikeText("a"),
     ]

@@ -4,6 +4,7 @@ import ast
 import builtins
 import re
 import unittest
+from functools import cache
 from pathlib import Path
 
 PACKAGE = Path(__file__).resolve().parent.parent / "taglook"
@@ -43,12 +44,18 @@ def files():
     return sorted(PACKAGE.rglob("*.py"))
 
 
+@cache
 def trees():
     return [(path, ast.parse(path.read_text())) for path in files()]
 
 
+@cache
+def all_nodes():
+    return [(path, node) for path, tree in trees() for node in ast.walk(tree)]
+
+
 def nodes_of(kinds):
-    return [(path, node) for path, tree in trees() for node in ast.walk(tree) if isinstance(node, kinds)]
+    return [(path, node) for path, node in all_nodes() if isinstance(node, kinds)]
 
 
 def bound_names():
@@ -75,19 +82,23 @@ def called(node):
     return node.func.id if isinstance(node.func, ast.Name) else getattr(node.func, "attr", None)
 
 
+@cache
 def methods_of_the_package():
     inner = [part for path, node in nodes_of(ast.ClassDef) for part in node.body]
     return {part.name for part in inner if isinstance(part, ast.FunctionDef)}
 
 
+@cache
 def values_of_the_package():
     return {node.attr for path, node in nodes_of(ast.Attribute) if isinstance(node.ctx, ast.Store)}
 
 
+@cache
 def classes_of_the_package():
     return {node.name for path, node in nodes_of(ast.ClassDef)}
 
 
+@cache
 def own_attributes():
     stored = [node.attr for path, node in nodes_of(ast.Attribute) if isinstance(node.ctx, ast.Store)]
     return set(stored) | {node.name for path, node in nodes_of(ast.FunctionDef)}

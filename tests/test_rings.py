@@ -6,6 +6,7 @@ from taglook.errors import Ring
 from taglook.merging import is_ring, merged
 
 from tests import rowsets
+from tests.refused import LikeText
 
 TWO = [["a", "b"], ["b", "c", "a"]]
 TWO_RING = [("a", "b", 0), ("b", "a", 1)]
@@ -17,17 +18,6 @@ def round_of(count):
     """Rows of two names each that lead round through so many names."""
     names = rowsets.many_names(count)
     return [[names[k], names[(k + 1) % count]] for k in range(count)]
-
-
-class LikeText:
-    def __init__(self, text):
-        self.text = text
-
-    def __eq__(self, other):
-        return other == self.text
-
-    def __hash__(self):
-        return hash(self.text)
 
 
 class RingsTold(unittest.TestCase):
