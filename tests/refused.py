@@ -40,3 +40,7 @@ def no_names():
         "", "A", "aB", "a b", " a", "a ", "abcdefghi", "a1", "1", "a,b", "-", "a-b", "a\n", "\t",
         None, 0, 1, -1, True, False, [], ["a"], (), ("a",), {}, {"a": "b"}, 1.5, b"a", LikeNoOther(), LikeText("a"),
     ]
+
+
+def no_rooms():
+    return [0, 9, -1, 10**30, True, False, None, "4", "", 4.0, [], [4], (4,), {}, {4: 4}, LikeNoOther()]

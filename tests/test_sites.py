@@ -5,13 +5,9 @@ from taglook.papers import found_all
 from taglook.sites import Site
 
 from tests import eldersets
-from tests.refused import no_names, refusal, refused
+from tests.refused import no_names, no_rooms, refusal, refused
 from tests.tellers import teller_of_word
 from tests.towns import state, town_of
-
-
-def no_rooms():
-    return [0, 9, -1, 10**30, True, False, None, "4", "", 4.0, [], [4], (4,), {}, {4: 4}, object()]
 
 
 class Made(unittest.TestCase):

@@ -3,14 +3,17 @@
 import unittest
 from random import Random
 
+from taglook.asks import ThingSite, value_of
 from taglook.errors import LookError, Loop, Tangled
 from taglook.sites import Site
+from taglook.things import Things
 from taglook.town import Town
 
-from tests.towns import WORDS, PlainSite, PlainTown, state
+from tests.towns import WORDS, PlainSite, PlainStand, PlainThings, PlainTown, state
 
 NAMES = list("abcdef")
 STARTS = [None, None, "a", "c"]
+THINGS = ["t", "s", "r"]
 
 
 class Walk:
@@ -92,10 +95,97 @@ class Walk:
             same(site.kept(), twin.entries)
 
 
+class ThingWalk(Walk):
+    """The same, with things and places of asking of them."""
+
+    def __init__(self, case, seed):
+        Walk.__init__(self, case, seed)
+        self.things, self.plain_things = Things(self.town), PlainThings(self.plain)
+        self.stands = []
+        for place, word in enumerate(WORDS * 2):
+            self.stands.append((ThingSite(self.things, word, 1 + place), PlainStand(self.plain_things, word, 1 + place)))
+
+    def step(self):
+        if self.random.random() < 0.5:
+            Walk.step(self)
+        else:
+            self.random.choice([self.make, self.put, self.put, self.take, self.lose, self.move] + [self.ask_thing] * 6)()
+        self.check()
+        self.check_things()
+
+    def make(self):
+        name, kind = self.random.choice(THINGS), self.random.choice(NAMES)
+        if name in self.plain_things.made or kind not in self.plain.elders:
+            self.refused(LookError, self.things.make, name, kind)
+        else:
+            self.things.make(name, kind)
+            self.plain_things.made[name] = (kind, {})
+
+    def put(self):
+        name, word, value = self.random.choice(THINGS), self.random.choice("uvw"), self.random.randint(-99, 99)
+        if name not in self.plain_things.made:
+            self.refused(LookError, self.things.put, name, word, value)
+        else:
+            self.things.put(name, word, value)
+            self.plain_things.put(name, word, value)
+
+    def take(self):
+        name, word = self.random.choice(THINGS), self.random.choice("uvw")
+        if name not in self.plain_things.made or word not in self.plain_things.made[name][1]:
+            self.refused(LookError, self.things.take, name, word)
+        else:
+            self.things.take(name, word)
+            self.plain_things.take(name, word)
+
+    def lose(self):
+        name = self.random.choice(THINGS)
+        if name not in self.plain_things.made:
+            self.refused(LookError, self.things.drop, name)
+        else:
+            self.things.drop(name)
+            self.plain_things.made.pop(name)
+
+    def move(self):
+        name, kind = self.random.choice(THINGS), self.random.choice(NAMES)
+        if name not in self.plain_things.made or kind not in self.plain.elders:
+            self.refused(LookError, self.things.move, name, kind)
+        else:
+            self.things.move(name, kind)
+            self.plain_things.made[name] = (kind, self.plain_things.made[name][1])
+
+    def ask_thing(self):
+        stand, plain = self.random.choice(self.stands)
+        name = self.random.choice(THINGS)
+        if name not in self.plain_things.made or self.plain_things.made[name][0] not in self.plain.elders:
+            self.refused(LookError, stand.ask, name)
+            return
+        told = stand.ask(name)
+        self.case.assertEqual(told, plain.ask(name))
+        own = self.plain_things.made[name][1]
+        value = own[stand.word] if told[0][0] == "own" else told[0][1][1]
+        self.case.assertEqual(value_of(self.things, name, told[0]), value)
+
+    def check_things(self):
+        things, plain, same = self.things, self.plain_things, self.case.assertEqual
+        same(things.names(), list(plain.made))
+        same([things.shapes.words_of(number) for number in range(things.shapes.many())], plain.rows)
+        for name, (kind, own) in plain.made.items():
+            same((things.kind_of(name), things.shape_of(name)), (kind, plain.shape_of(name)))
+            same(list(things.own(name).items()), list(own.items()))
+        for stand, twin in self.stands:
+            same(stand.kept(), twin.entries)
+
+
 class Walks(unittest.TestCase):
     def test_towns_and_sites(self):
         for seed in range(20):
             walk = Walk(self, seed)
+            for unused in range(300):
+                walk.step()
+
+    def test_things_and_places_of_asking_of_them(self):
+        for seed in range(20):
+            walk = ThingWalk(self, 1000 + seed)
             for unused in range(300):
                 walk.step()
 

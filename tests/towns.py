@@ -110,3 +110,50 @@ class PlainSite:
         if len(self.entries) > self.room:
             self.entries.pop(0)
         return (paper, way)
+
+
+class PlainThings:
+    """What things tell: each has a kind and a dict of own words; rows of words have numbers as they come."""
+
+    def __init__(self, town):
+        self.town = town
+        self.made = {}
+        self.rows = [[]]
+
+    def shape_of(self, name):
+        row = list(self.made[name][1])
+        if row not in self.rows:
+            self.rows.append(row)
+        return self.rows.index(row)
+
+    def put(self, name, word, value):
+        self.made[name][1][word] = value
+        self.shape_of(name)
+
+    def take(self, name, word):
+        self.made[name][1].pop(word)
+        self.shape_of(name)
+
+
+class PlainStand:
+    """What a place of asking of things tells and keeps."""
+
+    def __init__(self, things, word, room):
+        self.things, self.word, self.room = things, word, room
+        self.entries = []
+
+    def ask(self, name):
+        kind, own = self.things.made[name]
+        key, tag = (kind, self.things.shape_of(name)), self.things.town.tags[kind]
+        kept = [entry for entry in self.entries if entry[0] == key]
+        paper = self.things.town.look(kind, self.word)
+        is_own = self.word in own and paper[2] != 2
+        answer = ("own", list(own).index(self.word)) if is_own else ("kind", paper)
+        if kept and kept[0][3] == tag:
+            way = "same"
+        else:
+            way = "held" if kept and kept[0][1:3] == (answer, paper) else "anew"
+        self.entries = [entry for entry in self.entries if entry[0] != key] + [(key, answer, paper, tag)]
+        if len(self.entries) > self.room:
+            self.entries.pop(0)
+        return (answer, way)
