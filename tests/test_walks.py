@@ -5,6 +5,7 @@ from random import Random
 
 from taglook.asks import ThingSite, value_of
 from taglook.errors import LookError, Loop, Tangled
+from taglook.foretell import fallen, foretold
 from taglook.sites import Site
 from taglook.things import Things
 from taglook.town import Town
@@ -63,8 +64,12 @@ class Walk:
         facts = [(kind, word, self.random.choice([0, 0, 1, 2, None])) for kind, word in self.some(pairs, 4)]
         if not self.plain.has_lines({**self.plain.elders, **dict(turns)}):
             self.refused((Loop, Tangled), self.town.shift, turns, facts)
+            self.refused((Loop, Tangled), foretold, self.sites[0][0], turns, facts)
         else:
+            ahead = [foretold(site, turns, facts) for site, twin in self.sites]
+            self.check()
             self.case.assertEqual(self.town.shift(turns, facts), self.plain.shift(turns, facts))
+            self.case.assertEqual(ahead, [twin.fallen() for site, twin in self.sites])
 
     def ask(self):
         site, plain = self.random.choice(self.sites)
@@ -93,6 +98,7 @@ class Walk:
                 same(town.known(kind, word), plain.known.get((kind, word)))
         for site, twin in self.sites:
             same(site.kept(), twin.entries)
+            same(fallen(site), twin.fallen())
 
 
 class ThingWalk(Walk):

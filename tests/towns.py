@@ -111,6 +111,26 @@ class PlainSite:
             self.entries.pop(0)
         return (paper, way)
 
+    def fallen(self):
+        lines, told = self.town.lines(), []
+        for kind, paper, tag in self.entries:
+            if kind in lines and (self.start is None or self.start in lines[kind]):
+                begin = 0 if self.start is None else lines[kind].index(self.start) + 1
+                place = self.first_wrong(lines[kind][begin:], paper)
+                if place is not None:
+                    told.append((kind, place))
+        return told
+
+    def first_wrong(self, line, paper):
+        """The first place at which the paper is wrong, facts that are not known being as the paper has them."""
+        passed, found, told = paper
+        rows = [(kind, 0) for kind in passed] + [(found, told)]
+        for place, (kind, one) in enumerate(rows):
+            here = line[place] if place < len(line) else None
+            if here != kind or (kind is not None and self.town.known.get((kind, self.word), one) != one):
+                return place
+        return None
+
 
 class PlainThings:
     """What things tell: each has a kind and a dict of own words; rows of words have numbers as they come."""
