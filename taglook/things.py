@@ -1,6 +1,6 @@
 """Things: each of a kind of a town, with own words and their values."""
 
-from taglook.errors import NoKind, NoName, NoOwn, NoThing, TooMany, Twice
+from taglook.errors import NoName, NoOwn, NoThing, TooMany, Twice
 from taglook.names import is_name
 from taglook.shapes import Shapes
 
@@ -29,7 +29,7 @@ class Things:
             raise Twice(name)
         if len(self.made) >= MOST_THINGS:
             raise TooMany(MOST_THINGS)
-        self.check_kind(kind)
+        self.town.house.check_kind(kind)
         self.made[name] = Thing(kind)
 
     def put(self, name, word, value):
@@ -55,7 +55,7 @@ class Things:
 
     def move(self, name, kind):
         thing = self.thing(name)
-        self.check_kind(kind)
+        self.town.house.check_kind(kind)
         thing.kind = kind
 
     def drop(self, name):
@@ -82,8 +82,3 @@ class Things:
         if name not in self.made:
             raise NoThing(name)
         return self.made[name]
-
-    # A kind that things have may go from the town, so it is asked of the town each time.
-    def check_kind(self, kind):
-        if kind not in self.town.kinds():
-            raise NoKind(kind)

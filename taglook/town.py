@@ -1,6 +1,6 @@
 """A town: kinds with their lines, what is known of their words, and the tags that deeds leave."""
 
-from taglook.errors import NoKind, NoName, NoStrength, Twice
+from taglook.errors import NoName, NoStrength, Twice
 from taglook.facts import Facts
 from taglook.house import House
 from taglook.names import is_name
@@ -61,7 +61,7 @@ class Town:
         return self.house.heirs(name)
 
     def tag(self, name):
-        self.check_kind(name)
+        self.house.check_kind(name)
         return self.tags[name]
 
     def deeds(self):
@@ -81,12 +81,8 @@ class Town:
     def reads(self):
         return self.facts.reads()
 
-    def check_kind(self, name):
-        if name not in self.kinds():
-            raise NoKind(name)
-
     def check_fact(self, kind, word):
-        self.check_kind(kind)
+        self.house.check_kind(kind)
         if not is_name(word):
             raise NoName(word)
 
